@@ -1,0 +1,1 @@
+"""Relationladder: rows of sums in a few letters, their relations, the relations of these, and so on to the end."""
