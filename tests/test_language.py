@@ -1,4 +1,4 @@
-"""The package keeps to the small part of Python told in ../shared/LANGUAGE.md, as far as a walk over its code can see."""
+"""The package keeps to the rules of ../shared/LANGUAGE.md, as far as a walk over its code can see."""
 
 import ast
 import builtins
