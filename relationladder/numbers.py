@@ -75,6 +75,22 @@ class Rests(Numbers):
         return self.of(one, other)
 
 
+# A number of either kind as a top and a bottom.
+def top_and_bottom(numbers, number):
+    if numbers.prime() == 0:
+        return number
+    return (number, 1)
+
+
+# Tuples (top, bottom), perhaps not in lowest terms.
+def fraction_plus(one, other):
+    if one[1] == other[1]:
+        return (one[0] + other[0], one[1])
+    common = greatest_divisor(one[1], other[1])
+    share = other[1] // common
+    return (one[0] * share + other[0] * (one[1] // common), one[1] * share)
+
+
 # The range is asked first: trying divisors of a number of thirty figures would not end.
 def is_prime(whole):
     if whole < LEAST_PRIME or whole > GREATEST_PRIME:

@@ -1,10 +1,12 @@
 """Rows of level sums over columns of told degrees, tables of rows, and mixtures of them."""
 
+from relationladder.sums import gathered
 from relationladder.sums import is_level
 from relationladder.sums import is_sum
 from relationladder.sums import level
 from relationladder.sums import minus
 from relationladder.sums import plus
+from relationladder.sums import product_terms
 from relationladder.sums import times
 
 
@@ -47,7 +49,11 @@ def row_times(ring, row, one):
 
 
 def mixture(ring, many, rows, multiples):
-    mixed = [[] for place in range(many)]
+    return [gathered(ring, terms_at(ring, place, rows, multiples)) for place in range(many)]
+
+
+def terms_at(ring, place, rows, multiples):
+    terms = []
     for row, multiple in zip(rows, multiples):
-        mixed = row_plus(ring, mixed, row_times(ring, row, multiple))
-    return mixed
+        terms.extend(product_terms(ring, row[place], multiple))
+    return terms

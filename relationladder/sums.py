@@ -1,6 +1,8 @@
 """Rings, and sums of parts (product, number), falling by the order of products."""
 
 from relationladder.errors import NoRing
+from relationladder.numbers import fraction_plus
+from relationladder.numbers import top_and_bottom
 from relationladder.products import degree
 from relationladder.products import height
 from relationladder.products import is_above
@@ -56,12 +58,28 @@ def minus(ring, one, other):
 
 
 def times(ring, one, other):
-    numbers = ring.numbers()
-    parts = []
+    return gathered(ring, product_terms(ring, one, other))
+
+
+# Terms are tuples (product, top, bottom), the fractions perhaps not in lowest terms: to cancel once, where all is
+# added, spares most of the work.
+def product_terms(ring, one, other):
+    terms = []
     for product, number in one:
+        first = top_and_bottom(ring.numbers(), number)
         for second, factor in other:
-            parts.append((product_times(product, second), numbers.times(number, factor)))
-    return sum_of(ring, parts)
+            fraction = top_and_bottom(ring.numbers(), factor)
+            terms.append((product_times(product, second), first[0] * fraction[0], first[1] * fraction[1]))
+    return terms
+
+
+def gathered(ring, terms):
+    found = {}
+    for product, top, bottom in terms:
+        new = (top, bottom)
+        found[product] = fraction_plus(found[product], new) if product in found else new
+    numbers = ring.numbers()
+    return sum_of(ring, [(product, numbers.of(fraction[0], fraction[1])) for product, fraction in found.items()])
 
 
 # But for nought no number times another one comes to nought, so every part stays, and stays in its place.

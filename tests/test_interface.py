@@ -20,6 +20,9 @@ FUNCTIONS = {
         "mixture(ring, many, rows, multiples)",
     ],
     "leads": ["lead(columns, row)"],
+    "rests": ["rest(ring, columns, table, row)"],
+    "wholes": ["whole(ring, columns, table)", "whole_with(ring, columns, table)"],
+    "judging": ["judged(ring, columns, table, row)"],
     "numbers": ["Fractions()", "Rests(prime)"],
 }
 
