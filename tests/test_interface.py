@@ -23,6 +23,9 @@ FUNCTIONS = {
     "rests": ["rest(ring, columns, table, row)"],
     "wholes": ["whole(ring, columns, table)", "whole_with(ring, columns, table)"],
     "judging": ["judged(ring, columns, table, row)"],
+    "relations": ["relations(ring, columns, table)"],
+    "ladders": ["Ladder(ring, columns, table)"],
+    "struck": ["Struck(ladder)"],
     "numbers": ["Fractions()", "Rests(prime)"],
 }
 
@@ -32,6 +35,10 @@ METHODS = {
         "minus(self, one, other)", "times(self, one, other)", "over(self, one, other)",
     ],
     ("sums", "Ring"): ["numbers(self)", "letters(self)"],
+    ("ladders", "Ladder"): ["ring(self)", "columns(self)", "many(self)", "rungs(self)", "told(self, k, row)"],
+    ("struck", "Struck"): [
+        "kept(self)", "columns(self)", "rungs(self)", "there(self, stand)", "back(self, stand)", "degrees(self)",
+    ],
 }
 METHODS["numbers", "Rests"] = METHODS["numbers", "Fractions"]
 
