@@ -41,6 +41,13 @@ class Relations(RelationsCase):
             told = relations(ring, columns, table)
             self.check(ring, levels_of(columns, table), told)
 
+    def test_none_is_a_mixture_of_the_others(self):
+        for ring, columns, table in some_tables(self.chance, letters=(2, 3), columns_drawn=2):
+            told = relations(ring, columns, table)
+            for number, relation in enumerate(told):
+                others = told[:number] + told[number + 1:]
+                self.assertEqual(judged(ring, levels_of(columns, table), others, relation)[0], "out")
+
     def test_of_whole_tables(self):
         for ring, columns, table in some_tables(self.chance, letters=(1, 2, 3), columns_drawn=2):
             self.check(ring, columns, whole(ring, columns, table))

@@ -42,14 +42,14 @@ class RestsCase(unittest.TestCase):
 
 class AnyTables(RestsCase):
     def test_drawn(self):
-        for ring, columns, table in some_tables(self.chance, 2):
+        for ring, columns, table in some_tables(self.chance, 8):
             for _ in range(3):
                 own = self.chance.choice(columns) + self.chance.randint(0, 4)
                 row = some_row(self.chance, ring, columns, own, 4, most=8)
                 self.check(ring, columns, table, row)
 
     def test_by_whole_tables(self):
-        for ring, columns, table in some_tables(self.chance, columns_drawn=2):
+        for ring, columns, table in some_tables(self.chance, 3, columns_drawn=2):
             full = whole(ring, columns, table)
             row = some_row(self.chance, ring, columns, max(columns) + 3, 4, most=8)
             self.check(ring, columns, full, row)
