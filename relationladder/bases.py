@@ -2,7 +2,8 @@
 
 from relationladder.numbers import greatest_divisor
 from relationladder.numbers import inverse
-from relationladder.packing import free_bits
+from relationladder.packing import FREE_BIT
+from relationladder.packing import same_in_all
 from relationladder.vectors import cancelled
 from relationladder.vectors import common_divisor
 
@@ -17,7 +18,7 @@ class Basis:
     def __init__(self, frame, modulus):
         self.frame = frame
         self.modulus = modulus
-        self.free = free_bits(frame.width)
+        self.free = same_in_all(frame.width, FREE_BIT)
         self.leads = []
         self.firsts = []
         self.tails = []
@@ -60,7 +61,8 @@ class Basis:
         tops[self.leads[row]] = self.firsts[row]
         return (tops, self.firsts[row])
 
-    # Of the rows that a term is under the one with the least lead, or None. Ladders rest on this choice.
+    # Of the rows that a term is under the one with the least product as tuples are compared, or None. Climbs and towers
+    # rest on this choice.
     def reducer(self, key):
         if key not in self.known:
             self.known[key] = self.sought(key)

@@ -1,14 +1,16 @@
 """Tables made whole, level by level."""
 
 from relationladder.bases import Basis
+from relationladder.bases import Division
 from relationladder.growing import Growing
-from relationladder.packing import column_frame
-from relationladder.packing import packed
+from relationladder.packing import degree_frame
 from relationladder.products import degree
 from relationladder.products import divides
 from relationladder.products import least_common
 from relationladder.products import product_over
 from relationladder.rows import row_level
+from relationladder.vectors import mixed
+from relationladder.vectors import over_one_bottom
 from relationladder.vectors import shifted
 from relationladder.vectors import unit
 from relationladder.vectors import vector_of
@@ -75,7 +77,7 @@ class Climb:
         for row, own in enumerate(self.row_levels):
             for product in self.crossings[row]:
                 if own + degree(product) == level:
-                    shift = packed(product)
+                    shift = self.growing.basis.frame.shift(product)
                     way = self.growing.ways[row]
                     way = None if way is None else shifted(way, shift)
                     found.append((shifted(self.growing.basis.vector(row), shift), way))
@@ -94,19 +96,18 @@ class Climb:
             waiting = [own for own in self.waiting_levels() if own < level]
 
 
-# A table's rows made whole, up to the level most, or to the end where this is None.
+# A table's rows made whole in a frame over the columns, up to the level most, or to the end where this is None.
 #
-# With ways, its relations are made whole alongside, and the ways are shortened by them: left alone, ways grow far
-# beyond the rows that they lead to.
+# With ways, which need a frame that orders by degrees, the relations are made whole alongside, and the ways are
+# shortened by them: left alone, ways grow far beyond the rows that they lead to.
 class TableClimb:
-    def __init__(self, ring, columns, table, with_ways, most=None):
-        modulus = ring.numbers().prime()
-        self.rows = Climb(column_frame(ring.letters(), len(columns)), modulus)
-        self.relations = Climb(column_frame(ring.letters(), len(table)), modulus)
+    def __init__(self, ring, frame, columns, table, with_ways, most=None):
+        self.rows = Climb(frame, ring.numbers().prime())
+        self.relations = Climb(degree_frame(ring.letters(), len(table)), ring.numbers().prime())
         # The numbers of those rows among the relations that are no mixtures of the others.
         self.needed = []
         levels = [row_level(columns, row) for row in table]
-        vectors = [vector_of(ring, self.rows.growing.basis.frame, row) for row in table]
+        vectors = [vector_of(ring, frame, row) for row in table]
         ways = [self.first_way(number, with_ways) for number in range(len(table))]
         level = min(levels, default=None)
         while level is not None and (most is None or level <= most):
@@ -126,3 +127,12 @@ class TableClimb:
         self.needed.extend([row for row in made if row is not None])
         for row in range(start, len(self.rows.row_levels)):
             self.rows.growing.shorten_way(row, self.relations.growing.basis)
+
+    # The way to a mixture of this level.
+    def way_to(self, vector, level):
+        growing = self.rows.growing
+        steps = Division(growing.basis, vector).steps
+        shares = [(top, bottom, shift, growing.ways[row]) for row, shift, top, bottom in steps]
+        self.relations.climb_below(level + 1)
+        way = mixed(growing.basis.modulus, shares)
+        return over_one_bottom(Division(self.relations.growing.basis, way).rest)

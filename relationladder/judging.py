@@ -2,34 +2,29 @@
 
 from relationladder.bases import Division
 from relationladder.climbing import TableClimb
-from relationladder.packing import column_frame
+from relationladder.leads import term_height
+from relationladder.packing import degree_frame
 from relationladder.products import all_products
 from relationladder.rows import row_level
-from relationladder.vectors import mixed
 from relationladder.vectors import row_of
 from relationladder.vectors import terms_of
 from relationladder.vectors import vector_of
 
 
-# Rows above the row's level have no say, so the climb ends there.
+# Rows above the row's level have no say, so the climbs end there.
 def judged(ring, columns, table, row):
     level = row_level(columns, row)
     if level is None:
         return ("in", [[] for own in table])
-    basis = TableClimb(ring, columns, table, False, level).rows.growing.basis
-    division = Division(basis, vector_of(ring, basis.frame, row))
-    if division.rest == []:
-        return ("in", multiples_to(ring, columns, table, row, level))
-    return ("out", weights(ring, columns, level, basis, division.rest[0][0]))
-
-
-# Ways cost far more than the judgement itself: they are sought only where they are to be told.
-def multiples_to(ring, columns, table, row, level):
-    growing = TableClimb(ring, columns, table, True, level).rows.growing
-    division = Division(growing.basis, vector_of(ring, growing.basis.frame, row))
-    shares = [(top, bottom, shift, growing.ways[own]) for own, shift, top, bottom in division.steps]
-    over_rows = column_frame(ring.letters(), len(table))
-    return row_of(ring, over_rows, terms_of(mixed(ring.numbers().prime(), shares)))
+    frame = degree_frame(ring.letters(), len(columns))
+    vector = vector_of(ring, frame, row)
+    basis = TableClimb(ring, frame, columns, table, False, level).rows.growing.basis
+    division = Division(basis, vector)
+    if division.rest != []:
+        return ("out", weights(ring, columns, level, basis, division.rest[0][0]))
+    # Ways cost far more than the judgement itself: they are sought only where they are to be told.
+    way = TableClimb(ring, frame, columns, table, True, level).way_to(vector, level)
+    return ("in", row_of(ring, degree_frame(ring.letters(), len(table)), terms_of(way)))
 
 
 # A term's weight is the number that its rest has at the marked term, which is under no row: so what leaves nothing is
@@ -44,8 +39,8 @@ def weights(ring, columns, level, basis, marked):
             own = tail_worth(numbers, worth, basis, row, key - basis.leads[row])
             if own != numbers.of(0):
                 worth[key] = numbers.over(numbers.minus(numbers.of(0), own), numbers.of(basis.firsts[row]))
-    falling = sorted(worth, reverse=True)
-    return [(basis.frame.place(key), basis.frame.product(key), worth[key]) for key in falling]
+    found = [(basis.frame.place(key), basis.frame.product(key), worth[key]) for key in worth]
+    return sorted(found, key=lambda weight: term_height(weight[0], weight[1]), reverse=True)
 
 
 def tail_worth(numbers, worth, basis, row, shift):

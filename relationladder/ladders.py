@@ -1,33 +1,45 @@
 """Ladders: a whole table, its relations, the relations of these, and so on to the end."""
 
-from relationladder.bases import Basis
 from relationladder.bases import Division
-from relationladder.climbing import crossing
-from relationladder.climbing import TableClimb
-from relationladder.climbing import with_product
 from relationladder.errors import NoRelation
 from relationladder.errors import NoRung
+from relationladder.gluing import Glue
 from relationladder.packing import column_frame
-from relationladder.packing import Frame
-from relationladder.packing import packed
+from relationladder.packing import degree_frame
 from relationladder.products import degree
+from relationladder.striking import Striking
+from relationladder.towers import tower
+from relationladder.towers import tower_degrees
+from relationladder.vectors import mixed
+from relationladder.vectors import moved
 from relationladder.vectors import over_one_bottom
+from relationladder.vectors import reframed
+from relationladder.vectors import reordered
 from relationladder.vectors import row_of
-from relationladder.vectors import shifted
 from relationladder.vectors import terms_of
 from relationladder.vectors import vector_of
-from relationladder.wholes import falling_rows
+from relationladder.wholes import whole_vectors
 
 
-# The basis of each rung, and behind the last one a basis without rows, which ends the ladder.
+# The first rung is the whole table, the others are those of a thin tower. The second one is told over the whole
+# table's rows, and ahead of the tower's it has a row for each row of the whole table that is a mixture of the others.
+#
+# No row of a rung from the third one on has anything at those places ahead.
 class Ladder:
     def __init__(self, ring, columns, table):
         self.own_ring = ring
-        self.bases = [first_basis(ring, columns, table)]
+        self.bases = tower(ring, columns, table)
+        degrees = tower_degrees(columns, self.bases)
+        rungs = [(basis.frame, [basis.vector(row) for row in range(basis.many_rows())]) for basis in self.bases[:-1]]
+        self.thin = Striking(ring, rungs, degrees[:-1], 1)
         self.stand_degrees = [list(columns)]
-        while self.bases[-1].many_rows() > 0:
-            self.stand_degrees.append(lead_levels(self.bases[-1], self.stand_degrees[-1]))
-            self.bases.append(relation_basis(self.bases[-1]))
+        self.own_rungs = []
+        if rungs != []:
+            vectors = self.whole_table(table)
+            self.add_rung(self.bases[0].frame, vectors)
+            self.glue = Glue(ring, self.bases[0], self.thin, degrees[1], vectors)
+            self.add_rung(self.glue.table_frame, self.second_rung())
+            self.add_thin_rungs()
 
     def ring(self):
         return self.own_ring
@@ -36,71 +48,114 @@ class Ladder:
         return list(self.stand_degrees[0])
 
     def many(self):
-        return len(self.bases) - 1
+        return len(self.own_rungs)
 
     def rungs(self):
-        return [(list(self.stand_degrees[number]), self.rung_table(number)) for number in range(self.many())]
+        found = []
+        for degrees, rung in zip(self.stand_degrees, self.own_rungs):
+            table = [row_of(self.own_ring, rung[0], terms_of(vector)) for vector in rung[1]]
+            found.append((list(degrees), table))
+        return found
 
-    def rung_table(self, number):
-        basis = self.bases[number]
-        vectors = [basis.vector(row) for row in range(basis.many_rows())]
-        return [row_of(self.own_ring, basis.frame, terms_of(vector)) for vector in vectors]
-
+    # The rows of the last rung have no relation but nought.
     def told(self, k, row):
         if k < 1 or k > self.many():
             raise NoRung("the ladder has no such rung")
-        basis = self.bases[k]
-        division = Division(basis, vector_of(self.own_ring, basis.frame, row))
+        if k == self.many():
+            if any([entry != [] for entry in row]):
+                raise NoRelation("the row does not mix the rung's rows to nought")
+            return []
+        if k == 1:
+            return [list(row[own]) for own in self.glue.left] + self.lifted(1, self.thin_of_whole(row))
+        return self.lifted(k, self.thin_of_row(k, row))
+
+    def add_rung(self, frame, vectors):
+        if vectors != []:
+            degrees = self.stand_degrees[-1]
+            self.own_rungs.append((frame, vectors))
+            self.stand_degrees.append([vector_level(degrees, frame, vector) for vector in vectors])
+
+    def add_thin_rungs(self):
+        stand = 3
+        while self.thin_places(stand) != []:
+            self.add_rung(self.rung_frame(stand - 1), self.thin_rung(stand))
+            stand = stand + 1
+
+    def whole_table(self, table):
+        columns = self.stand_degrees[0]
+        frame = column_frame(self.own_ring.letters(), len(columns))
+        vectors = whole_vectors(self.own_ring, columns, table)
+        return [reordered(vector, frame, self.bases[0].frame) for vector in vectors]
+
+    def second_rung(self):
+        relations = [self.glue.relation_of(row) for row in self.glue.left]
+        return relations + [self.glue.over_table(vector) for vector in self.thin_vectors(2)]
+
+    def thin_rung(self, stand):
+        frame = self.thin.frames[stand - 1]
+        numbers = self.rung_numbers(stand - 1)
+        return [moved(vector, frame, self.rung_frame(stand - 1), numbers) for vector in self.thin_vectors(stand)]
+
+    def thin_vectors(self, stand):
+        return [self.thin.thin_row(stand, place) for place in self.thin_places(stand)]
+
+    def thin_places(self, stand):
+        if stand < len(self.thin.kept_places):
+            return self.thin.kept_places[stand]
+        return []
+
+    # Of a stand from 2 on, by which number a kept place of the tower stands among the rung's rows.
+    def rung_numbers(self, stand):
+        ahead = len(self.glue.left) if stand == 2 else 0
+        return dict([(place, ahead + number) for number, place in enumerate(self.thin_places(stand))])
+
+    def rung_frame(self, stand):
+        return degree_frame(self.own_ring.letters(), len(self.stand_degrees[stand]))
+
+    def thin_of_whole(self, row):
+        frame = self.glue.table_frame
+        vector = vector_of(self.own_ring, frame, row)
+        shares = []
+        for key, top in vector[0].items():
+            place = frame.place(key)
+            shares.append((top, vector[1], key - frame.offsets[place], self.glue.ways[place]))
+        return mixed(self.bases[0].modulus, shares)
+
+    def thin_of_row(self, stand, row):
+        frame = self.rung_frame(stand)
+        vector = vector_of(self.own_ring, frame, row)
+        places = dict([(number, place) for place, number in self.rung_numbers(stand).items()])
+        if any([frame.place(key) not in places for key in vector[0]]):
+            raise NoRelation("the row does not mix the rung's rows to nought")
+        return moved(vector, frame, self.thin.frames[stand], places)
+
+    # What the thin tower's rows beneath are mixed by is led into the tower, told there by the next rung, and led back.
+    def lifted(self, stand, vector):
+        basis = self.bases[stand]
+        division = Division(basis, reframed(self.tower_vector(stand, vector), self.thin.frames[stand], basis.frame))
         if division.rest != []:
             raise NoRelation("the row does not mix the rung's rows to nought")
-        over_rows = column_frame(self.own_ring.letters(), basis.many_rows())
-        terms = [(over_rows.offsets[own] + shift, top, bottom) for own, shift, top, bottom in division.steps]
-        return row_of(self.own_ring, over_rows, terms)
+        places = self.thin_places(stand + 1)
+        if places == []:
+            return []
+        frame = self.thin.frames[stand + 1]
+        terms = [(frame.offsets[row] + shift, top, bottom) for row, shift, top, bottom in division.steps]
+        thin_vector = self.thin.there(stand + 1, over_one_bottom(terms))
+        told_row = row_of(self.own_ring, frame, terms_of(thin_vector))
+        return [told_row[place] for place in places]
+
+    def tower_vector(self, stand, vector):
+        frame = self.thin.frames[stand]
+        known = {}
+        shares = []
+        for key, top in vector[0].items():
+            place = frame.place(key)
+            if place not in known:
+                known[place] = self.thin.back(stand, place)
+            shares.append((top, vector[1], key - frame.offsets[place], known[place]))
+        return mixed(self.bases[0].modulus, shares)
 
 
-def first_basis(ring, columns, table):
-    made = TableClimb(ring, columns, table, False).rows.growing.basis
-    basis = Basis(made.frame, made.modulus)
-    for row in falling_rows(made):
-        basis.add_row(made.vector(row)[0])
-    return basis
-
-
-def lead_levels(basis, degrees):
-    frame = basis.frame
-    return [degrees[frame.place(lead)] + degree(frame.product(lead)) for lead in basis.leads]
-
-
-# Terms over the rows of a basis are ordered by the leads that they come to, of alike ones the lesser row above.
-def lead_frame(basis):
-    frame = basis.frame
-    rows = sorted(range(basis.many_rows()), key=lambda row: (frame.rank(basis.leads[row]), row))
-    ranks = dict([(row, rank) for rank, row in enumerate(rows)])
-    tops = [frame.top_product(lead) for lead in basis.leads]
-    return Frame(frame.width, tops, [ranks[row] for row in range(basis.many_rows())])
-
-
-# Of rows at one place, falling, each one is crossed with those behind it. The division takes the hindmost row that a
-# term is under: so the lead of each relation is the row times the crossing's product, no other term of it is under
-# the lead of a relation, and these leads lack one letter more than those of the basis.
-def relation_basis(basis):
-    frame = lead_frame(basis)
-    found = Basis(frame, basis.modulus)
-    for row in range(basis.many_rows()):
-        for product in sorted(crossings_behind(basis, row), reverse=True):
-            shift = packed(product)
-            division = Division(basis, shifted(basis.vector(row), shift))
-            terms = [(frame.offsets[own] + move, -top, bottom) for own, move, top, bottom in division.steps]
-            found.add_row(over_one_bottom([(frame.offsets[row] + shift, 1, 1)] + terms)[0])
-    return found
-
-
-def crossings_behind(basis, row):
-    frame = basis.frame
-    product = frame.product(basis.leads[row])
-    found = []
-    for lead, other in basis.standing[frame.place(basis.leads[row])]:
-        second = frame.product(basis.leads[other])
-        if second < product:
-            found = with_product(found, crossing(product, second))
-    return found
+def vector_level(degrees, frame, vector):
+    lead = max(vector[0])
+    return degrees[frame.place(lead)] + degree(frame.product(lead))

@@ -21,36 +21,44 @@ def unpacked(letters, whole):
     return tuple(reversed(oftens))
 
 
-def free_bits(letters):
-    return packed([FREE_BIT for letter in range(letters)])
+def same_in_all(letters, often):
+    return packed([often for letter in range(letters)])
 
 
-# The terms over some places, each with a key: its packed product, and the place's own offset.
+# The terms over some places, each with a key: the shift of its product, and the place's own offset.
 #
-# So terms are ordered by their products times the tops of their places, and of alike ones by the places' ranks,
-# the lesser above; no two places have the same rank.
+# So terms are ordered by their products times the tops of their places, and of alike ones by the places' ranks, the
+# lesser above; no two places have the same rank. Products are ordered as tuples are compared.
 class Frame:
     def __init__(self, letters, tops, ranks):
         self.width = letters
+        self.mask = same_in_all(letters, LETTER_MASK)
         self.offsets = [top + PLACE_MASK - rank for top, rank in zip(tops, ranks)]
         self.places = dict([(PLACE_MASK - rank, place) for place, rank in enumerate(ranks)])
+
+    def shift(self, product):
+        return packed(product)
+
+    # The product of a shift, packed plainly.
+    def plain(self, shift):
+        return shift
 
     def many_places(self):
         return len(self.offsets)
 
     def key(self, place, product):
-        return packed(product) + self.offsets[place]
+        return self.shift(product) + self.offsets[place]
 
     def place(self, key):
         return self.places[key & PLACE_MASK]
 
     def packed_product(self, key):
-        return key - self.offsets[self.place(key)]
+        return self.plain(key - self.offsets[self.place(key)])
 
     def product(self, key):
         return unpacked(self.width, self.packed_product(key))
 
-    # The product times the top of its place.
+    # The product times the top of its place, as a shift.
     def top_product(self, key):
         return key - (key & PLACE_MASK)
 
@@ -58,16 +66,29 @@ class Frame:
         return PLACE_MASK - (key & PLACE_MASK)
 
 
+# Products are ordered by their degrees, and of one degree by how often all letters but the first stand there, then all
+# but the first two, and so on. Where the order is free this one is taken: its whole tables are far smaller.
+class DegreeFrame(Frame):
+    def shift(self, product):
+        return packed([sum(product[start:]) for start in range(len(product))])
+
+    def plain(self, shift):
+        return shift - ((shift << LETTER_BITS) & self.mask)
+
+
 # The order of terms over columns: by products as tuples are compared, of one product the lesser place above.
 def column_frame(letters, many):
     return Frame(letters, [0 for place in range(many)], list(range(many)))
 
 
-# Another order of terms over as many places: those of the list stand above all others and fall in its order,
-# whatever the products.
+def degree_frame(letters, many):
+    return raised_frame(letters, many, [])
+
+
+# The places of the list stand above all others and fall in its order, whatever the products.
 def raised_frame(letters, many, raised):
     heights = [0 for place in range(many)]
     for number, place in enumerate(raised):
         heights[place] = len(raised) - number
     one = tuple([0 for letter in range(letters)])
-    return Frame(letters, [packed((height,) + one) for height in heights], list(range(many)))
+    return DegreeFrame(letters, [packed((height,) + one) for height in heights], list(range(many)))

@@ -63,17 +63,33 @@ def unit(frame, place):
     return ({frame.offsets[place]: 1}, 1)
 
 
-# The same terms by the keys of another frame over the same places.
+# The terms by the keys of another frame of the same order of products, each at the new place of its place.
+def moved(vector, frame, other, new_places):
+    found = {}
+    for key, top in vector[0].items():
+        place = frame.place(key)
+        found[key - frame.offsets[place] + other.offsets[new_places[place]]] = top
+    return (found, vector[1])
+
+
 def reframed(vector, frame, other):
-    moves = [second - first for first, second in zip(frame.offsets, other.offsets)]
-    return (dict([(key + moves[frame.place(key)], top) for key, top in vector[0].items()]), vector[1])
+    return moved(vector, frame, other, list(range(frame.many_places())))
+
+
+# The same terms by the keys of any other frame over the same places.
+def reordered(vector, frame, other):
+    found = {}
+    for key, top in vector[0].items():
+        found[other.key(frame.place(key), frame.product(key))] = top
+    return (found, vector[1])
 
 
 def shifted(vector, shift):
     return (dict([(key + shift, top) for key, top in vector[0].items()]), vector[1])
 
 
-# Shares are tuples (top, bottom, shift, vector): the vector times a packed product and the number top over bottom.
+# Shares are tuples (top, bottom, shift, vector): the vector times a product, as its shift, and the number top over
+# bottom.
 def mixed(modulus, shares):
     lowest = []
     for top, under, shift, vector in shares:
