@@ -3,7 +3,7 @@ import random
 import unittest
 
 from relationladder.judging import judged
-from relationladder.numbers import Fractions
+from relationladder.numbers import Fractions, Rests
 from relationladder.relations import relations
 from relationladder.sums import Ring, minus
 from relationladder.wholes import whole
@@ -116,6 +116,13 @@ class Large(RelationsCase):
                 ring = Ring(kind, letters)
                 for columns in ([0, 0, 0], [0, 1, -1]):
                     self.check(ring, columns, some_table(self.chance, ring, columns, 5, (1, 2), 2))
+
+    def test_four_letters_three_columns_degree_two(self):
+        """Their whole tables have some sixty rows; their relations are few and small, and no long wait is due."""
+        for kind in (Fractions(), Rests(9973)):
+            ring = Ring(kind, 4)
+            for _ in range(4):
+                self.check(ring, [0, 0, 0], some_table(self.chance, ring, [0, 0, 0], 5, (2,), 2))
 
     def test_degree_four(self):
         for kind in KINDS:

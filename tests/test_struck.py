@@ -5,7 +5,7 @@ import unittest
 
 from relationladder.errors import NoRung
 from relationladder.ladders import Ladder
-from relationladder.numbers import Fractions
+from relationladder.numbers import Fractions, Rests
 from relationladder.struck import Struck
 from relationladder.sums import Ring
 from relationladder.wholes import whole
@@ -211,6 +211,12 @@ class Large(StruckCase):
                 for columns in ([0, 0, 0], [0, 1, -1]):
                     table = some_table(self.chance, ring, columns, 5, (1,) if letters == 4 else (1, 2), 2)
                     self.check(ring, columns, table)
+
+
+    def test_four_letters_three_columns_degree_two(self):
+        for _ in range(2):
+            ring = Ring(Rests(9973), 4)
+            self.check(ring, [0, 0, 0], some_table(self.chance, ring, [0, 0, 0], 5, (2,), 2))
 
 
 class Own(StruckCase):
