@@ -26,6 +26,13 @@ FUNCTIONS = {
     "relations": ["relations(ring, columns, table)"],
     "ladders": ["Ladder(ring, columns, table)"],
     "struck": ["Struck(ladder)"],
+    "counting": [
+        "count(ring, columns, table, level)", "count_row(ring, columns, table)",
+        "count_polynomial(ring, columns, table)",
+    ],
+    "plain": [
+        "rank(numbers, lists)", "plain_count(ring, columns, table, level)", "plain_degrees(ring, columns, table, most)",
+    ],
     "numbers": ["Fractions()", "Rests(prime)"],
 }
 
