@@ -11,6 +11,15 @@ from relationladder.vectors import terms_of
 from relationladder.vectors import vector_of
 
 
+def is_mixture(ring, columns, table, row):
+    level = row_level(columns, row)
+    if level is None:
+        return True
+    frame = degree_frame(ring.letters(), len(columns))
+    basis = TableClimb(ring, frame, columns, table, False, level).rows.growing.basis
+    return Division(basis, vector_of(ring, frame, row)).rest == []
+
+
 # Rows above the row's level have no say, so the climbs end there.
 def judged(ring, columns, table, row):
     level = row_level(columns, row)

@@ -10,6 +10,7 @@ from relationladder.products import degree
 from relationladder.striking import Striking
 from relationladder.towers import tower
 from relationladder.towers import tower_degrees
+from relationladder.towers import tower_rungs
 from relationladder.vectors import mixed
 from relationladder.vectors import moved
 from relationladder.vectors import over_one_bottom
@@ -30,7 +31,7 @@ class Ladder:
         self.own_ring = ring
         self.bases = tower(ring, columns, table)
         degrees = tower_degrees(columns, self.bases)
-        rungs = [(basis.frame, [basis.vector(row) for row in range(basis.many_rows())]) for basis in self.bases[:-1]]
+        rungs = tower_rungs(self.bases)
         self.thin = Striking(ring, rungs, degrees[:-1], 1)
         self.stand_degrees = [list(columns)]
         self.own_rungs = []

@@ -2,6 +2,9 @@
 
 from relationladder.errors import NoRung
 from relationladder.striking import Striking
+from relationladder.towers import tower
+from relationladder.towers import tower_degrees
+from relationladder.towers import tower_rungs
 from relationladder.vectors import row_of
 from relationladder.vectors import terms_of
 from relationladder.vectors import unit
@@ -29,8 +32,7 @@ class Struck:
         return found
 
     def degrees(self):
-        further = [sorted(self.kept_degrees(stand)) for stand in range(1, len(self.kept_places))]
-        return [sorted(self.kept_degrees(0))] + [levels for levels in further if levels != []]
+        return rising_degrees(self.stand_degrees, self.kept_places)
 
     def there(self, stand):
         self.check(stand)
@@ -53,3 +55,18 @@ class Struck:
     def over_kept(self, stand, vector):
         row = row_of(self.own_ring, self.striking.frames[stand], terms_of(vector))
         return [row[place] for place in self.kept_places[stand]]
+
+
+def rising_degrees(stand_degrees, kept_places):
+    found = []
+    for degrees, places in zip(stand_degrees, kept_places):
+        found.append(sorted([degrees[place] for place in places]))
+    return found[:1] + [levels for levels in found[1:] if levels != []]
+
+
+# The degrees of a table's struck-out ladder. They are the same for all ladders: so a tower will do, which is made far
+# sooner than a ladder, since that begins with the whole table.
+def thin_degrees(ring, columns, table):
+    bases = tower(ring, columns, table)
+    stand_degrees = tower_degrees(columns, bases[:-1])
+    return rising_degrees(stand_degrees, Striking(ring, tower_rungs(bases), stand_degrees, 0).kept_places)

@@ -42,6 +42,11 @@ def tower_degrees(columns, bases):
     return found
 
 
+# A tuple (frame, vectors) for each basis but the last.
+def tower_rungs(bases):
+    return [(basis.frame, [basis.vector(row) for row in range(basis.many_rows())]) for basis in bases[:-1]]
+
+
 # Terms over the rows of a basis are ordered by the leads that they come to, of alike ones the lesser row above.
 def lead_frame(basis):
     frame = basis.frame

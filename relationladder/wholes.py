@@ -36,3 +36,12 @@ def whole_with(ring, columns, table):
         told.append(row)
         ways.append(row_of(ring, over_rows, terms_of(way)))
     return (told, ways)
+
+
+# In each order of terms there is just one whole table with the same mixtures; that of the order by degrees is found
+# soonest.
+def same_whole(ring, columns, one, other):
+    frame = degree_frame(ring.letters(), len(columns))
+    bases = [TableClimb(ring, frame, columns, table, False).rows.growing.basis for table in (one, other)]
+    rows = [dict([(lead, basis.vector(row)) for row, lead in enumerate(basis.leads)]) for basis in bases]
+    return rows[0] == rows[1]

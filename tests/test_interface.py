@@ -33,6 +33,13 @@ FUNCTIONS = {
     "plain": [
         "rank(numbers, lists)", "plain_count(ring, columns, table, level)", "plain_degrees(ring, columns, table, most)",
     ],
+    "maps": ["carried(ladder, other, first)", "aside(ladder, other, maps)"],
+    "turns": ["turned_sum(ring, turn, one)", "turned_table(ring, turn, table)"],
+    "texts": [
+        "show_sum(ring, one)", "show_row(ring, row)", "show_table(ring, columns, table)", "read_sum(ring, text)",
+        "read_row(ring, columns, text)", "read_table(text)",
+    ],
+    "desk": ["Desk()"],
     "numbers": ["Fractions()", "Rests(prime)"],
 }
 
@@ -47,6 +54,7 @@ METHODS = {
         "kept(self)", "columns(self)", "rungs(self)", "there(self, stand)", "back(self, stand)", "degrees(self)",
     ],
 }
+METHODS["desk", "Desk"] = ["say(self, row)"]
 METHODS["numbers", "Rests"] = METHODS["numbers", "Fractions"]
 
 
