@@ -70,6 +70,13 @@ class Ladder:
             return [list(row[own]) for own in self.glue.left] + self.lifted(1, self.thin_of_whole(row))
         return self.lifted(k, self.thin_of_row(k, row))
 
+    # Of a mixture of the first rung's rows: multiples for those of them alone that the thin tower is glued to.
+    def glued_multiples(self, row):
+        basis = self.bases[0]
+        way = self.glue.over_tower(basis, vector_of(self.own_ring, basis.frame, row))
+        vector = self.glue.over_table(self.thin.there(1, way))
+        return row_of(self.own_ring, self.glue.table_frame, terms_of(vector))
+
     def add_rung(self, frame, vectors):
         if vectors != []:
             degrees = self.stand_degrees[-1]

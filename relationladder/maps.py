@@ -1,6 +1,7 @@
 """Maps carried up ladders, and maps told as steps aside."""
 
 from relationladder.errors import NoMap
+from relationladder.numbers import top_and_bottom
 from relationladder.rests import rest
 from relationladder.rows import mixture
 from relationladder.rows import row_minus
@@ -53,10 +54,24 @@ class Lifting:
             return []
         return self.ladder.told(stand - 1, row)
 
+    # There are two ways to multiples, and either may come to far longer ones than the other.
     def lifted_first(self, row):
-        columns = self.ladder.columns()
+        ring = self.ladder.ring()
         table = self.own_rungs[0][1] if self.own_rungs != [] else []
-        divided = rest(self.ladder.ring(), columns, table, row)
+        divided = rest(ring, self.ladder.columns(), table, row)
         if any([entry != [] for entry in divided[1]]):
             raise NoMap("a row is no mixture of the other ladder's first rung's")
-        return divided[0]
+        if table == []:
+            return []
+        ways = [divided[0], self.ladder.glued_multiples(row)]
+        return min(ways, key=lambda multiples: bits_of(ring.numbers(), multiples))
+
+
+# How much there is to write.
+def bits_of(numbers, row):
+    found = 0
+    for entry in row:
+        for product, number in entry:
+            fraction = top_and_bottom(numbers, number)
+            found = found + fraction[0].bit_length() + fraction[1].bit_length()
+    return found

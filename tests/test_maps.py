@@ -6,13 +6,14 @@ from relationladder.errors import NoMap
 from relationladder.ladders import Ladder
 from relationladder.maps import aside, carried
 from relationladder.numbers import Fractions, Rests
+from relationladder.rests import rest
 from relationladder.rows import row_minus, row_plus
 from relationladder.struck import Struck
 from relationladder.sums import Ring
 from tests.helpers import check_own, check_refused, lists_within
 from tests.reckoning import (
-    KINDS, as_terms, check_row, level_of, levels_of, mixed, multiples_at, noughts, one, rank, same_mixtures, some_row,
-    some_sum, some_table, some_tables,
+    KINDS, as_terms, check_row, level_of, levels_of, mixed, multiples_at, noughts, one, rank, same_mixtures,
+    some_mixture, some_row, some_sum, some_table, some_tables,
 )
 
 TWO = Ring(Fractions(), 2)
@@ -264,6 +265,20 @@ class Aside(MapsCase):
             else:
                 self.check_aside(ladder, ladder, carried(ladder, ladder, first), 0)
         self.assertGreater(met, 3)
+
+
+class Ways(MapsCase):
+    def test_both_ways_to_multiples(self):
+        """The shorter one is told; here each is checked by itself."""
+        for ring, columns, table in some_tables(self.chance):
+            ladder = Ladder(ring, columns, table)
+            if table:
+                own, rows = ladder.rungs()[0]
+                for _ in range(2):
+                    row = some_mixture(self.chance, ring, columns, table)[1]
+                    for multiples in (ladder.glued_multiples(row), rest(ring, own, rows, row)[0]):
+                        check_row(self, ring, levels_of(own, rows), multiples, level_of(own, row))
+                        self.assertEqual(mixed(ring, len(own), rows, multiples), row)
 
 
 class Large(MapsCase):
