@@ -35,6 +35,7 @@ class Ladder:
         self.thin = Striking(ring, rungs, degrees[:-1], 1)
         self.stand_degrees = [list(columns)]
         self.own_rungs = []
+        self.rung_tables = None
         if rungs != []:
             vectors = self.whole_table(table)
             self.add_rung(self.bases[0].frame, vectors)
@@ -51,12 +52,17 @@ class Ladder:
     def many(self):
         return len(self.own_rungs)
 
+    # Made once, since to cancel all fractions takes its time, and told as copies.
     def rungs(self):
+        if self.rung_tables is None:
+            self.rung_tables = [self.rung_table(rung) for rung in self.own_rungs]
         found = []
-        for degrees, rung in zip(self.stand_degrees, self.own_rungs):
-            table = [row_of(self.own_ring, rung[0], terms_of(vector)) for vector in rung[1]]
-            found.append((list(degrees), table))
+        for degrees, table in zip(self.stand_degrees, self.rung_tables):
+            found.append((list(degrees), [[list(entry) for entry in row] for row in table]))
         return found
+
+    def rung_table(self, rung):
+        return [row_of(self.own_ring, rung[0], terms_of(vector)) for vector in rung[1]]
 
     # The rows of the last rung have no relation but nought.
     def told(self, k, row):

@@ -2,7 +2,8 @@
 
 from relationladder.errors import NoMap
 from relationladder.numbers import top_and_bottom
-from relationladder.rests import rest
+from relationladder.rests import rest_by
+from relationladder.rests import table_basis
 from relationladder.rows import mixture
 from relationladder.rows import row_minus
 
@@ -32,6 +33,8 @@ class Lifting:
     def __init__(self, ladder):
         self.ladder = ladder
         self.own_rungs = ladder.rungs()
+        self.first_table = self.own_rungs[0][1] if self.own_rungs != [] else []
+        self.first_basis = table_basis(ladder.ring(), ladder.columns(), self.first_table)
 
     # Rows over a stand, mixed.
     def mixtures(self, stand, rows, all_multiples):
@@ -57,11 +60,10 @@ class Lifting:
     # There are two ways to multiples, and either may come to far longer ones than the other.
     def lifted_first(self, row):
         ring = self.ladder.ring()
-        table = self.own_rungs[0][1] if self.own_rungs != [] else []
-        divided = rest(ring, self.ladder.columns(), table, row)
+        divided = rest_by(ring, self.ladder.columns(), self.first_table, self.first_basis, row)
         if any([entry != [] for entry in divided[1]]):
             raise NoMap("a row is no mixture of the other ladder's first rung's")
-        if table == []:
+        if self.first_table == []:
             return []
         ways = [divided[0], self.ladder.glued_multiples(row)]
         return min(ways, key=lambda multiples: bits_of(ring.numbers(), multiples))

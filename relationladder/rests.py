@@ -10,12 +10,21 @@ from relationladder.vectors import vector_of
 
 
 def rest(ring, columns, table, row):
+    return rest_by(ring, columns, table, table_basis(ring, columns, table), row)
+
+
+def table_basis(ring, columns, table):
     frame = column_frame(ring.letters(), len(columns))
     basis = Basis(frame, ring.numbers().prime())
     for own in table:
         basis.add_row(vector_of(ring, frame, own)[0])
-    division = Division(basis, vector_of(ring, frame, row))
-    return (multiples_of(ring, columns, table, division.steps), row_of(ring, frame, division.rest))
+    return basis
+
+
+# With the table's basis, so that it is made once where many rows are asked.
+def rest_by(ring, columns, table, basis, row):
+    division = Division(basis, vector_of(ring, basis.frame, row))
+    return (multiples_of(ring, columns, table, division.steps), row_of(ring, basis.frame, division.rest))
 
 
 # The steps tell of rows with the lead number 1, the table's rows may have another one.
